@@ -1,0 +1,1 @@
+"""Newfaces: rounds of tables at which no two sit together twice."""
