@@ -1,5 +1,7 @@
 """Rounds: which things are rounds, who sits together in them, and what is wrong with a plan."""
 
+from newfaces.errors import BadRound
+
 
 def fault(party, plan):
     """Tell what is wrong with a plan first: ("round", k), ("twice", a, b, j, k), or None."""
@@ -14,6 +16,13 @@ def fault(party, plan):
         for pair in together:
             met_in[pair] = number
     return None
+
+
+def check_plan(party, plan):
+    """Refuse, with BadRound, the first thing of a plan that is no round of the party."""
+    for number, thing in enumerate(plan):
+        if not is_round(party, thing):
+            raise BadRound(number)
 
 
 def is_round(party, thing):

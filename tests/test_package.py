@@ -1,10 +1,20 @@
-"""Point 1: no clock, no chance and no files, so far as the package's own lines show."""
+"""The interface that stands, and point 1: no clock, no chance and no files, so far as the package's lines show."""
 
 import ast
 import os
 import unittest
 
 PACKAGE = os.path.join(os.path.dirname(os.path.dirname(os.path.abspath(__file__))), "newfaces")
+
+# The functions of the interface that stand, by their files, with their arguments.
+INTERFACE = {
+    "rounds.py": {"fault": ["party", "plan"]},
+    "meetings.py": {"met": ["party", "plan"], "unmet": ["party", "plan"]},
+    "nexts.py": {"next_rounds": ["party", "plan"]},
+    "longest.py": {"bound": ["party", "plan"], "longest": ["party", "plan"]},
+    "turnings.py": {"turned": ["party", "tables", "turning"], "turns": ["party", "tables", "turning"],
+                    "made": ["party"], "rounds_made": ["party"]},
+}
 
 
 def trees():
@@ -18,8 +28,16 @@ class PackageTest(unittest.TestCase):
 
     def test_files_of_the_interface(self):
         names = [name for name, tree in trees()]
-        for name in ("__init__.py", "errors.py", "parties.py", "rounds.py"):
+        for name in ["__init__.py", "errors.py", "parties.py"] + list(INTERFACE):
             self.assertIn(name, names)
+
+    def test_functions_of_the_interface_are_defined_in_their_files(self):
+        for name, tree in trees():
+            defined = {node.name: node for node in tree.body if isinstance(node, ast.FunctionDef)}
+            for function, wanted in INTERFACE.get(name, {}).items():
+                given = defined[function].args
+                self.assertEqual([argument.arg for argument in given.args], wanted, function)
+                self.assertEqual((given.vararg, given.kwonlyargs, given.kwarg, given.defaults), (None, [], None, []))
 
     def test_imports_are_from_the_package_alone(self):
         for name, tree in trees():
