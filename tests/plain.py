@@ -48,6 +48,19 @@ def plain_turned(tables, turning):
     return tuple(sorted(tuple(sorted(guest for guest in places if places[guest] == at)) for at in range(len(tables))))
 
 
+def some_full_round(chance, guests, size):
+    standing = chance.sample(range(guests), guests)
+    return tuple(sorted(tuple(sorted(standing[at:at + size])) for at in range(0, guests, size)))
+
+
+def some_round(chance, guests, size):
+    """A round in which some are away, and some tables are gone."""
+    standing = chance.sample(range(guests), guests)
+    tables = [standing[at:at + size] for at in range(0, guests, size)]
+    stay = [sorted(table[:chance.randint(1, size)]) for table in tables if chance.randrange(4)]
+    return tuple(sorted(tuple(table) for table in stay))
+
+
 def alone(*pairs):
     """A plan at each round of which one table stands."""
     return [(pair,) for pair in pairs]

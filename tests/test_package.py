@@ -1,4 +1,4 @@
-"""The interface that stands, and point 1: no clock, no chance and no files, so far as the package's lines show."""
+"""The interface, and point 1: no clock, no chance and no files, so far as the package's lines show."""
 
 import ast
 import os
@@ -6,7 +6,7 @@ import unittest
 
 PACKAGE = os.path.join(os.path.dirname(os.path.dirname(os.path.abspath(__file__))), "newfaces")
 
-# The functions of the interface that stand, by their files, with their arguments.
+# The functions of the interface, by their files, with their arguments.
 INTERFACE = {
     "rounds.py": {"fault": ["party", "plan"]},
     "meetings.py": {"met": ["party", "plan"], "unmet": ["party", "plan"]},
@@ -14,6 +14,10 @@ INTERFACE = {
     "longest.py": {"bound": ["party", "plan"], "longest": ["party", "plan"]},
     "turnings.py": {"turned": ["party", "tables", "turning"], "turns": ["party", "tables", "turning"],
                     "made": ["party"], "rounds_made": ["party"]},
+    "hosts.py": {"hosts": ["party", "plan"], "with_hosts": ["tables", "size"]},
+    "comers.py": {"comes": ["party", "plan", "first"], "leaves": ["party", "plan", "guest", "last"]},
+    "alike.py": {"alike": ["party", "one", "other"]},
+    "notes.py": {"written": ["party", "plan", "names"], "read": ["party", "text", "names"]},
 }
 
 

@@ -51,6 +51,11 @@ class PartyTest(unittest.TestCase):
         for guests, size in ((2, 1), (64, 1), (9, 9), (18, 9), (63, 9), (10, 10), (64, 64), (4, -2), (64, -8)):
             self.check_refused(guests, size)
 
+    def test_numbers_far_beyond_the_bounds(self):
+        far = 10 ** 30
+        for guests, size in ((far, 2), (far, 8), (-far, 2), (8, far), (8, -far), (far, far), (-far, -far), (64, 1000)):
+            self.check_refused(guests, size)
+
     def test_tables_of_no_seats(self):
         self.check_refused(4, 0)
         self.check_refused(0, 0)

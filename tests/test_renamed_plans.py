@@ -3,12 +3,13 @@
 import itertools
 import random
 
+from newfaces.alike import alike
 from newfaces.longest import bound, longest
 from newfaces.nexts import next_rounds
 from newfaces.parties import Party
 from newfaces.rounds import fault
 from newfaces.turnings import rounds_made, turned
-from tests.plain import AskingCase, alone, plain_turned
+from tests.plain import AskingCase, alone, plain_turned, some_full_round, some_round
 
 PLANS = {
     (4, 2): [[], [((0, 1), (2, 3))], alone((0, 1), (1, 2)), alone((0, 1), (0, 1)), alone((0, 1), (0, 2), (0, 3))],
@@ -26,10 +27,16 @@ class RenamedPlansTest(AskingCase):
     def check(self, party, one, other):
         self.assertEqual(bound(party, one)[0], bound(party, other)[0])
         self.assertEqual(fault(party, one) is None, fault(party, other) is None)
+        # Of larger parties nothing is promised of the rest.
         if party.guests() > 9:
             return
-        self.assertEqual(len(next_rounds(party, one)), len(next_rounds(party, other)))
         self.assertEqual(len(longest(party, one)[0]), len(longest(party, other)[0]))
+        after, after_other = next_rounds(party, one), next_rounds(party, other)
+        self.assertEqual(len(after), len(after_other))
+        # By the turning that takes the one to the other, what comes next goes to what comes next.
+        turning = alike(party, one, other)
+        self.assertEqual(sorted(turned(party, tables, turning) for tables in one), sorted(other))
+        self.assertEqual(sorted(turned(party, tables, turning) for tables in after), after_other)
 
     def check_renamed(self, party, plan, turning, order):
         with self.subTest(plan=plan, turning=turning, order=order):
@@ -56,6 +63,22 @@ class RenamedPlansTest(AskingCase):
         other = [turned(party, tables, turning) for tables in plan]
         wanted = sorted(turned(party, tables, turning) for tables in next_rounds(party, plan))
         self.assertEqual(next_rounds(party, other), wanted)
+
+    def test_plans_that_are_alike_or_are_told_apart(self):
+        # None of these was made by renaming another.
+        chance, found, apart = random.Random(24), 0, 0
+        for guests, size in ((4, 2), (6, 2), (6, 3), (8, 4)):
+            party = Party(guests, size)
+            plans = [[chance.choice((some_round, some_full_round))(chance, guests, size) for at in range(2)]
+                     for number in range(40)]
+            for one, other in itertools.combinations(plans, 2):
+                if alike(party, one, other) is not None:
+                    self.check(party, one, other)
+                    found += 1
+                elif bound(party, one)[0] != bound(party, other)[0]:
+                    apart += 1
+        self.assertGreater(found, 100)
+        self.assertGreater(apart, 100)
 
     def test_large_parties(self):
         chance = random.Random(15)

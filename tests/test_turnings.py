@@ -9,7 +9,7 @@ from newfaces.longest import bound
 from newfaces.parties import Party
 from newfaces.rounds import fault
 from newfaces.turnings import made, rounds_made, turned, turns
-from tests.plain import PARTIES, AskingCase, pairs_of, plain_turned
+from tests.plain import PARTIES, AskingCase, pairs_of, plain_turned, some_round
 
 # For six guests.
 NO_TURNINGS = {
@@ -32,13 +32,6 @@ NO_ROUNDS = (((1, 0),), ((0, 6),), ((-1, 0),), ((0, 1, 2, 3),), ((),), ((0, 1), 
 
 TABLES_OF_TWO = [(guests, 2) for guests in range(2, 65, 2)]
 SQUARES = [(9, 3), (25, 5), (49, 7)]
-
-
-def some_round(chance, guests, size):
-    standing = chance.sample(range(guests), guests)
-    tables = [standing[at:at + size] for at in range(0, guests, size)]
-    stay = [sorted(table[:chance.randint(1, size)]) for table in tables if chance.randrange(4)]
-    return tuple(sorted(tuple(table) for table in stay))
 
 
 def plain_turns(tables, turning):
